@@ -1,0 +1,1 @@
+"""Blockkeep: files kept in blocks, whole whenever the disk stops."""
