@@ -3,18 +3,9 @@ import unittest
 
 from blockkeep.disk import Disk
 from blockkeep.errors import BadDisk, BadRow, NoBlock, Stopped
+from tests.helping import NEVER_BLOCKS, NO_ROWS, all_rows, row_of
 
-NO_BLOCKS = [-1, 24, 25, 96, 10 ** 9, 10 ** 5000, -(10 ** 5000), True, False, "0", "", None, [], [0], (0,), {}, 0.0]
-NO_ROWS = [[], [0] * 15, [0] * 17, (0,) * 16, "0" * 16, None, 0, True, {}, [0] * 15 + [-1], [1000000000] + [0] * 15,
-           [0] * 7 + [True] + [0] * 8, [0] * 15 + [False], [0] * 15 + ["0"], [None] * 16, [[0] * 16] * 16]
-
-
-def row_of(word):
-    return [word] * 16
-
-
-def all_rows(disk):
-    return [disk.read(block) for block in range(disk.blocks())]
+NO_BLOCKS = NEVER_BLOCKS + [24, 25]
 
 
 class MadeTest(unittest.TestCase):
