@@ -13,8 +13,12 @@ def is_word(thing):
     return is_whole(thing, 0, MOST_WORD)
 
 
+def are_words(thing):
+    return isinstance(thing, list) and all([is_word(word) for word in thing])
+
+
 def is_row(thing):
-    return isinstance(thing, list) and len(thing) == ROW_WORDS and all([is_word(word) for word in thing])
+    return are_words(thing) and len(thing) == ROW_WORDS
 
 
 def empty_row():

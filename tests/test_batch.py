@@ -5,20 +5,14 @@ import unittest
 from blockkeep.batch import Batch
 from blockkeep.errors import BadRow, NoBlock, Stopped, TooMuch
 from blockkeep.journal import come_back
-from tests.helping import NEVER_BLOCKS, NO_ROWS, all_rows, counted_row, full_disk, new_pairs, row_of
+from tests.helping import NEVER_BLOCKS, NO_ROWS, BatchCase, all_rows, counted_row, full_disk, new_pairs, row_of
 
 
-class BatchTest(unittest.TestCase):
-    """A full disk of forty blocks with a batch; the disk may be checked to be as it was."""
+class BatchTest(BatchCase):
+    """A full disk of forty blocks with a batch."""
 
     def setUp(self):
-        self.disk = full_disk(40)
-        self.rows = all_rows(self.disk)
-        self.batch = Batch(self.disk)
-
-    def check_disk_as_it_was(self):
-        self.assertEqual(all_rows(self.disk), self.rows)
-        self.assertEqual(self.disk.writes(), 0)
+        self.start_on(full_disk(40))
 
 
 class ReadTest(BatchTest):

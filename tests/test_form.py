@@ -150,6 +150,15 @@ class TreeFormTest(unittest.TestCase):
         for name, node in nodes_of(ast.arg):
             self.assertFalse(hasattr(builtins, node.arg), f"L15 {name} {node.lineno}")
 
+    def test_no_local_is_called_like_a_class_or_an_import(self):
+        for name, tree in trees():
+            tops = {alias.name for node in ast.walk(tree) if isinstance(node, ast.ImportFrom) for alias in node.names}
+            tops |= {node.name for node in tree.body if isinstance(node, ast.ClassDef)}
+            for node in ast.walk(tree):
+                stored = isinstance(node, ast.arg) or isinstance(getattr(node, "ctx", None), ast.Store)
+                if stored and not isinstance(node, ast.Attribute):
+                    self.assertEqual(tops & set(bound_names(node)), set(), f"L15 {name} {node.lineno}")
+
     def test_is_stands_beside_none_true_false(self):
         for name, node in nodes_of(ast.Compare):
             for sign, side in zip(node.ops, node.comparators):

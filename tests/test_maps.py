@@ -6,7 +6,7 @@ from blockkeep.batch import Batch
 from blockkeep.errors import NoBlock, NoRoom
 from blockkeep.layout import Layout, head_row
 from blockkeep.maps import free_blocks, give, is_free, new_maps, take
-from tests.helping import NEVER_BLOCKS, all_rows, full_disk, row_of
+from tests.helping import NEVER_BLOCKS, all_rows, joined, mapped_disk, row_of
 
 # Counts of blocks that go by sixteen, one more, one less, and the least and the greatest; few data and many.
 SOME_COUNTS = [(24, 1), (24, 4), (28, 8), (31, 1), (32, 2), (33, 3), (40, 8), (47, 1), (48, 1), (49, 2), (64, 5),
@@ -23,18 +23,6 @@ def wanted_words(layout):
     for block in range(16 * (layout.nodes_at - 17)):
         words.append(0 if layout.data_at <= block < layout.many else 1)
     return words
-
-
-def joined(rows):
-    return [word for row in rows for word in row]
-
-
-def mapped_disk(layout):
-    """A full disk whose maps tell all data blocks as free."""
-    disk = full_disk(layout.many)
-    for place, row in enumerate(new_maps(layout)):
-        disk.write(layout.maps_at + place, row)
-    return disk.twin()
 
 
 class NewMapsTest(unittest.TestCase):

@@ -3,8 +3,7 @@ import unittest
 
 from blockkeep import rows
 from blockkeep.rows import changed, empty_row, is_row, is_word
-
-NO_WORDS = [-1, 1000000000, -999999999, 10 ** 5000, True, False, "1", "", None, [], [1], (), (1,), {}, 1.0, 0.0, b"1"]
+from tests.helping import NO_WORDS
 
 
 def counted_row():
